@@ -1,0 +1,119 @@
+package fib_test
+
+import (
+	"fmt"
+	"strings"
+	"testing"
+	"time"
+
+	"fibimage/fib"
+)
+
+func TestErrnos(t *testing.T) {
+	errnos := [7]fib.Errno{fib.OK, fib.ErrLong, fib.ErrArg, fib.ErrSyntax, fib.ErrMany, fib.ErrSize, fib.ErrImage}
+	for i, e := range errnos {
+		if e != fib.Errno(i) {
+			t.Errorf("error %d is %d", i, e)
+		}
+	}
+}
+
+// wildTexts are tables, and texts that are none or more than one fault.
+func wildTexts() []string {
+	texts := []string{
+		"", "\n", "*", "* ", "* 1", "* 1\n", "0 1\n1 2\n", "0 0\n", "x", "\x00", "\xff\xfe",
+		"* 99999999999999999999999999\n", "FI", "FI\x04\x00\x00\x0a\x00\x07\x01\x7c",
+		"000000000000 2\n111111111111 1\n", longTable(400), longTable(401),
+		strings.Repeat("* 1\n", 24), strings.Repeat("* 1\n", 25), strings.Repeat("* 1\n", 101),
+		strings.Repeat("1", 400), strings.Repeat("*", 401), strings.Repeat("\n", 70000),
+	}
+	d := &dice{state: 1}
+	for i := 0; i < 40; i++ {
+		texts = append(texts, d.spoil(d.table(d.below(26), 12)))
+	}
+	return texts
+}
+
+var wildNumbers = []int{minInt, minInt + 1, -4096, -13, -1, 0, 1, 2, 11, 12, 13, 31, 32, 63, 64, 65, 4095, 4096, 1 << 20, maxInt - 1, maxInt}
+
+// answersOf writes what the three calls of tables answer, all in one text.
+func answersOf(text string, width int, addr int) string {
+	e, place := fib.Check(text, width)
+	print, printE := fib.Print(text, width)
+	hop, hopE := fib.Find(text, width, addr)
+	return fmt.Sprintf("%d %d, %q %d, %d %d", e, place, print, printE, hop, hopE)
+}
+
+func TestWildArguments(t *testing.T) {
+	for _, text := range wildTexts() {
+		fib.Load(text)
+		for _, a := range wildNumbers {
+			for _, b := range wildNumbers {
+				wantErrorAlone(t, text, a, b)
+				fib.Cost(text, a, b)
+				fib.Compile(text, a, b, a)
+				fib.Lookup(text, a, b)
+			}
+		}
+	}
+}
+
+// wantErrorAlone: beside an error the other results are nothing, but for
+// Check's place, which stands beside ErrSyntax alone; and the calls agree.
+func wantErrorAlone(t *testing.T, text string, width int, addr int) {
+	t.Helper()
+	e, place := fib.Check(text, width)
+	if e != fib.ErrSyntax && place != 0 || place < 0 || place > len(text) {
+		t.Errorf("P1: Check(%.60q, %d) = %d, %d", text, width, e, place)
+	}
+	print, printE := fib.Print(text, width)
+	if printE != e || e != fib.OK && print != "" {
+		t.Errorf("P1: Print(%.60q, %d) = %q, %d beside Check's %d", text, width, print, printE, e)
+	}
+	hop, hopE := fib.Find(text, width, addr)
+	if e != fib.OK && hopE != e || hopE != fib.OK && hop != 0 {
+		t.Errorf("P1: Find(%.60q, %d, %d) = %d, %d beside Check's %d", text, width, addr, hop, hopE, e)
+	}
+}
+
+// A call that went through these texts would take minutes for all of them.
+func TestLongTextsByLength(t *testing.T) {
+	text := strings.Repeat("* 1\n", 1<<24)
+	begin := time.Now()
+	for i := 0; i < 2000; i++ {
+		e, place := fib.Check(text, i%15)
+		print, printE := fib.Print(text, i%15)
+		hop, hopE := fib.Find(text, i%15, i)
+		if e != fib.ErrLong || place != 0 || printE != fib.ErrLong || print != "" || hopE != fib.ErrLong || hop != 0 {
+			t.Fatalf("P1: of a long text: %d, %d; %q, %d; %d, %d", e, place, print, printE, hop, hopE)
+		}
+		if time.Since(begin) > 20*time.Second {
+			t.Fatalf("P1: long texts are gone through: %d calls in %v", 3*i, time.Since(begin))
+		}
+	}
+}
+
+// The same arguments have the same answers, whatever was asked in between.
+func TestNothingIsKept(t *testing.T) {
+	texts := wildTexts()
+	asked := func(i int) string {
+		return answersOf(texts[i%len(texts)], 1+i%12, i%40)
+	}
+	count := 12 * len(texts)
+	first := make([]string, count)
+	for i := 0; i < count; i++ {
+		first[i] = asked(i)
+	}
+	d := &dice{state: 2}
+	for n := 0; n < 4*count; n++ {
+		i := d.below(count)
+		if again := asked(i); again != first[i] {
+			t.Fatalf("P2: asked again for %.60q: %s, first %s", texts[i%len(texts)], again, first[i])
+		}
+	}
+	for i := count - 1; i >= 0; i-- {
+		if again := asked(i); again != first[i] {
+			t.Fatalf("P2: asked backwards for %.60q: %s, first %s", texts[i%len(texts)], again, first[i])
+		}
+	}
+}
