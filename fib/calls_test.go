@@ -26,22 +26,33 @@ func wildTexts() []string {
 		"000000000000 2\n111111111111 1\n", longTable(400), longTable(401),
 		strings.Repeat("* 1\n", 24), strings.Repeat("* 1\n", 25), strings.Repeat("* 1\n", 101),
 		strings.Repeat("1", 400), strings.Repeat("*", 401), strings.Repeat("\n", 70000),
+		twoDeep, twoDeep[1:], twoDeep + "x", image(12, 12, nodeMark+2, chain(12)),
 	}
 	d := &dice{state: 1}
 	for i := 0; i < 40; i++ {
 		texts = append(texts, d.spoil(d.table(d.below(26), 12)))
+	}
+	for i := 0; i < 10; i++ {
+		texts = append(texts, d.image(1+d.below(12)))
+		texts = append(texts, sealed(d.spoil(d.image(1+d.below(12)))))
 	}
 	return texts
 }
 
 var wildNumbers = []int{minInt, minInt + 1, -4096, -13, -1, 0, 1, 2, 11, 12, 13, 31, 32, 63, 64, 65, 4095, 4096, 1 << 20, maxInt - 1, maxInt}
 
-// answersOf writes what the three calls of tables answer, all in one text.
-func answersOf(text string, width int, addr int) string {
+// answersOf writes what the calls answer, all in one text; the number is an
+// address, a depth and a place as well.
+func answersOf(text string, width int, number int) string {
 	e, place := fib.Check(text, width)
 	print, printE := fib.Print(text, width)
-	hop, hopE := fib.Find(text, width, addr)
-	return fmt.Sprintf("%d %d, %q %d, %d %d", e, place, print, printE, hop, hopE)
+	hop, hopE := fib.Find(text, width, number)
+	cost, costE := fib.Cost(text, width, number)
+	tables := fmt.Sprintf("%d %d, %q %d, %d %d, %d %d", e, place, print, printE, hop, hopE, cost, costE)
+	walked, nodes, walkedE := fib.Lookup(text, 0, number)
+	behind, behindNodes, behindE := fib.Lookup("ab"+text, 2, width)
+	images := fmt.Sprintf("%d, %d %d %d, %d %d %d", fib.Load(text), walked, nodes, walkedE, behind, behindNodes, behindE)
+	return tables + ", " + images
 }
 
 func TestWildArguments(t *testing.T) {
@@ -50,9 +61,9 @@ func TestWildArguments(t *testing.T) {
 		for _, a := range wildNumbers {
 			for _, b := range wildNumbers {
 				wantErrorAlone(t, text, a, b)
-				fib.Cost(text, a, b)
+				wantCostOrError(t, text, a, b)
+				wantWalkOrError(t, text, a, b)
 				fib.Compile(text, a, b, a)
-				fib.Lookup(text, a, b)
 			}
 		}
 	}
@@ -76,6 +87,47 @@ func wantErrorAlone(t *testing.T, text string, width int, addr int) {
 	}
 }
 
+func wantCostOrError(t *testing.T, text string, width int, depth int) {
+	t.Helper()
+	checkE, _ := fib.Check(text, width)
+	cost, e := fib.Cost(text, width, depth)
+	isDepth := depth >= 1 && depth <= width
+	if e != checkE && (isDepth || e != fib.ErrArg || checkE == fib.ErrLong) || e != fib.OK && cost != 0 {
+		t.Errorf("P1: Cost(%.60q, %d, %d) = %d, %d beside Check's %d", text, width, depth, cost, e, checkE)
+	}
+}
+
+func wantWalkOrError(t *testing.T, text string, from int, addr int) {
+	t.Helper()
+	hop, nodes, e := fib.Lookup(text, from, addr)
+	if (from < 0 || from > len(text)) && e != fib.ErrArg || e != fib.OK && (hop != 0 || nodes != 0) {
+		t.Errorf("P1: Lookup(%.60q, %d, %d) = %d, %d, %d", text, from, addr, hop, nodes, e)
+	}
+	if hop < 0 || hop > 250 || nodes < 0 || nodes > maxWidth || e != fib.OK && e != fib.ErrArg && e != fib.ErrImage {
+		t.Errorf("P9: Lookup(%.60q, %d, %d) = %d, %d, %d", text, from, addr, hop, nodes, e)
+	}
+}
+
+// An image among many bytes takes no longer than one alone, and bytes that are
+// too many for an image are not summed up.
+func TestLongBytesByLength(t *testing.T) {
+	bytes := twoDeep + strings.Repeat(twoDeep, 1<<20)
+	begin := time.Now()
+	for i := 0; i < 2000; i++ {
+		if e := fib.Load(bytes); e != fib.ErrImage {
+			t.Fatalf("P8: Load of many bytes: %d", e)
+		}
+		from := len(twoDeep) * i
+		hop, nodes, e := fib.Lookup(bytes, from, 3)
+		if hop != 9 || nodes != 2 || e != fib.OK {
+			t.Fatalf("P9: Lookup in many bytes, from %d: %d, %d, %d", from, hop, nodes, e)
+		}
+		if time.Since(begin) > 20*time.Second {
+			t.Fatalf("P1: many bytes are gone through: %d calls in %v", 2*i, time.Since(begin))
+		}
+	}
+}
+
 // A call that went through these texts would take minutes for all of them.
 func TestLongTextsByLength(t *testing.T) {
 	text := strings.Repeat("* 1\n", 1<<24)
@@ -87,8 +139,11 @@ func TestLongTextsByLength(t *testing.T) {
 		if e != fib.ErrLong || place != 0 || printE != fib.ErrLong || print != "" || hopE != fib.ErrLong || hop != 0 {
 			t.Fatalf("P1: of a long text: %d, %d; %q, %d; %d, %d", e, place, print, printE, hop, hopE)
 		}
+		if cost, costE := fib.Cost(text, i%15, i%13); cost != 0 || costE != fib.ErrLong {
+			t.Fatalf("P1: Cost of a long text: %d, %d", cost, costE)
+		}
 		if time.Since(begin) > 20*time.Second {
-			t.Fatalf("P1: long texts are gone through: %d calls in %v", 3*i, time.Since(begin))
+			t.Fatalf("P1: long texts are gone through: %d calls in %v", 4*i, time.Since(begin))
 		}
 	}
 }

@@ -44,13 +44,38 @@ func Find(text string, width int, addr int) (int, Errno) {
 }
 
 // Cost tells how many slots a table wants (P6).
-func Cost(text string, width int, depth int) (int, Errno) { return 0, 0 }
+func Cost(text string, width int, depth int) (int, Errno) {
+	lines, errno := readForDepth(text, width, depth)
+	if errno != OK {
+		return 0, errno
+	}
+	return tableCost(lines, depth), OK
+}
 
 // Compile makes a table's image (P7).
 func Compile(text string, width int, depth int, limit int) (string, Errno) { return "", 0 }
 
 // Load tells whether bytes are a good image (P8).
-func Load(image string) Errno { return 0 }
+func Load(image string) Errno {
+	if !isImage(image) {
+		return ErrImage
+	}
+	return OK
+}
 
 // Lookup walks an image (P9).
-func Lookup(bytes string, from int, addr int) (int, int, Errno) { return 0, 0, 0 }
+func Lookup(bytes string, from int, addr int) (int, int, Errno) {
+	if from < 0 || from > len(bytes) {
+		return 0, 0, ErrArg
+	}
+	image := imageAt(bytes, from)
+	if !isImage(image) {
+		return 0, 0, ErrImage
+	}
+	width := byteAt(image, widthAt)
+	if !isAddress(addr, width) {
+		return 0, 0, ErrArg
+	}
+	hop, nodes := walkImage(image, addr)
+	return hop, nodes, OK
+}

@@ -111,6 +111,58 @@ func wantFind(text string, width int, addr int) (int, fib.Errno) {
 	return hops["*"], fib.OK
 }
 
+// tree has the height of each node, and the costs that are known so far.
+type tree struct {
+	heights map[string]int
+	costs   map[string]int
+}
+
+func (tr tree) cost(bits string, depth int) int {
+	key := fmt.Sprint(bits, "/", depth)
+	if known, ok := tr.costs[key]; ok {
+		return known
+	}
+	least := maxInt
+	for stride := 1; stride <= tr.heights[bits]; stride++ {
+		cost := 1 << stride
+		for node := range tr.heights {
+			if len(node) != len(bits)+stride || !strings.HasPrefix(node, bits) {
+				continue
+			}
+			if depth == 1 {
+				cost = maxInt
+				break
+			}
+			cost += tr.cost(node, depth-1)
+		}
+		least = min(least, cost)
+	}
+	tr.costs[key] = least
+	return least
+}
+
+func wantCost(text string, width int, depth int) (int, fib.Errno) {
+	if len(text) > maxText {
+		return 0, fib.ErrLong
+	}
+	if depth < 1 || depth > width {
+		return 0, fib.ErrArg
+	}
+	if e, _ := wantCheck(text, width); e != fib.OK {
+		return 0, e
+	}
+	tr := tree{heights: map[string]int{}, costs: map[string]int{}}
+	for bits := range hopsByBits(text) {
+		for n := 0; n < len(bits) && bits != "*"; n++ {
+			tr.heights[bits[:n]] = max(tr.heights[bits[:n]], len(bits)-n)
+		}
+	}
+	if len(tr.heights) == 0 {
+		return 0, fib.OK
+	}
+	return tr.cost("", depth), fib.OK
+}
+
 // dice throws the same numbers in every run.
 type dice struct{ state uint64 }
 

@@ -41,6 +41,16 @@ func readTable(text string, width int) ([]route, Errno, int) {
 	return lines, OK, 0
 }
 
+// readForDepth is readTable for the calls that have a depth: a depth that is
+// none is named ahead of a fault of the text, but behind its length.
+func readForDepth(text string, width int, depth int) ([]route, Errno) {
+	if len(text) <= maxText && (depth < 1 || depth > width) {
+		return nil, ErrArg
+	}
+	lines, errno, _ := readTable(text, width)
+	return lines, errno
+}
+
 // readLine reads the line that begins at start: its route, the place behind
 // its line end, and true; or no route, the place of its fault, and false.
 func readLine(text string, width int, start int) (route, int, bool) {
