@@ -49,6 +49,9 @@ func answersOf(text string, width int, number int) string {
 	hop, hopE := fib.Find(text, width, number)
 	cost, costE := fib.Cost(text, width, number)
 	tables := fmt.Sprintf("%d %d, %q %d, %d %d, %d %d", e, place, print, printE, hop, hopE, cost, costE)
+	compiled, compiledE := fib.Compile(text, width, number, maxInt)
+	short, shortE := fib.Compile(text, width, number, 10+number)
+	tables += fmt.Sprintf(", %x %d, %x %d", compiled, compiledE, short, shortE)
 	walked, nodes, walkedE := fib.Lookup(text, 0, number)
 	behind, behindNodes, behindE := fib.Lookup("ab"+text, 2, width)
 	images := fmt.Sprintf("%d, %d %d %d, %d %d %d", fib.Load(text), walked, nodes, walkedE, behind, behindNodes, behindE)
@@ -63,7 +66,7 @@ func TestWildArguments(t *testing.T) {
 				wantErrorAlone(t, text, a, b)
 				wantCostOrError(t, text, a, b)
 				wantWalkOrError(t, text, a, b)
-				fib.Compile(text, a, b, a)
+				wantCompiledOrError(t, text, a, b)
 			}
 		}
 	}
@@ -94,6 +97,26 @@ func wantCostOrError(t *testing.T, text string, width int, depth int) {
 	isDepth := depth >= 1 && depth <= width
 	if e != checkE && (isDepth || e != fib.ErrArg || checkE == fib.ErrLong) || e != fib.OK && cost != 0 {
 		t.Errorf("P1: Cost(%.60q, %d, %d) = %d, %d beside Check's %d", text, width, depth, cost, e, checkE)
+	}
+}
+
+// wantCompiledOrError: of the errors that Cost does not know there is but one,
+// and it stands behind them all.
+func wantCompiledOrError(t *testing.T, text string, width int, depth int) {
+	t.Helper()
+	_, costE := fib.Cost(text, width, depth)
+	limits := []int{maxInt}
+	if costE == fib.OK {
+		limits = wildNumbers
+	}
+	for _, limit := range limits {
+		image, e := fib.Compile(text, width, depth, limit)
+		if costE != fib.OK && e != costE || costE == fib.OK && e != fib.OK && e != fib.ErrSize {
+			t.Errorf("P1: Compile(%.60q, %d, %d, %d): error %d beside Cost's %d", text, width, depth, limit, e, costE)
+		}
+		if (image == "") != (e != fib.OK) || e == fib.OK && len(image) > limit {
+			t.Errorf("P1: Compile(%.60q, %d, %d, %d) = %.60x, %d", text, width, depth, limit, image, e)
+		}
 	}
 }
 
@@ -142,8 +165,11 @@ func TestLongTextsByLength(t *testing.T) {
 		if cost, costE := fib.Cost(text, i%15, i%13); cost != 0 || costE != fib.ErrLong {
 			t.Fatalf("P1: Cost of a long text: %d, %d", cost, costE)
 		}
+		if image, imageE := fib.Compile(text, i%15, i%13, i-1000); image != "" || imageE != fib.ErrLong {
+			t.Fatalf("P1: Compile of a long text: %x, %d", image, imageE)
+		}
 		if time.Since(begin) > 20*time.Second {
-			t.Fatalf("P1: long texts are gone through: %d calls in %v", 4*i, time.Since(begin))
+			t.Fatalf("P1: long texts are gone through: %d calls in %v", 5*i, time.Since(begin))
 		}
 	}
 }

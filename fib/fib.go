@@ -53,7 +53,17 @@ func Cost(text string, width int, depth int) (int, Errno) {
 }
 
 // Compile makes a table's image (P7).
-func Compile(text string, width int, depth int, limit int) (string, Errno) { return "", 0 }
+func Compile(text string, width int, depth int, limit int) (string, Errno) {
+	lines, errno := readForDepth(text, width, depth)
+	if errno != OK {
+		return "", errno
+	}
+	image := compileTable(lines, width, depth)
+	if len(image) > limit {
+		return "", ErrSize
+	}
+	return image, OK
+}
 
 // Load tells whether bytes are a good image (P8).
 func Load(image string) Errno {

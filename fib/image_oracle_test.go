@@ -156,6 +156,25 @@ func wantWalks(image string) [][2]int {
 	return walks
 }
 
+// wantSlots is for a good image: its slots, as they are counted by P7.
+func wantSlots(image string) int {
+	o := oracle{body: image[:len(image)-2], slots: map[int][]int{}}
+	return o.countSlots(6)
+}
+
+func (o oracle) countSlots(at int) int {
+	entry := int(binary.BigEndian.Uint16([]byte(o.body[at:])))
+	if entry <= 250 {
+		return 0
+	}
+	places := o.slotsAt(at + entry - nodeMark)
+	count := len(places)
+	for _, place := range places {
+		count += o.countSlots(place)
+	}
+	return count
+}
+
 // wantImageIs holds Load, and Lookup of all addresses, against the oracle, and
 // tells whether the image is good.
 func wantImageIs(t *testing.T, image string) bool {

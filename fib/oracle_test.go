@@ -102,13 +102,26 @@ func wantFind(text string, width int, addr int) (int, fib.Errno) {
 	if addr < 0 || len(digits) > width {
 		return 0, fib.ErrArg
 	}
-	hops := hopsByBits(text)
-	for n := width; n > 0; n-- {
+	return longestFit(hopsByBits(text), digits), fib.OK
+}
+
+func longestFit(hops map[string]int, digits string) int {
+	for n := len(digits); n > 0; n-- {
 		if hop := hops[digits[:n]]; hop != 0 {
-			return hop, fib.OK
+			return hop
 		}
 	}
-	return hops["*"], fib.OK
+	return hops["*"]
+}
+
+// wantHops is for tables alone: the hop of each address.
+func wantHops(text string, width int) []int {
+	hops := hopsByBits(text)
+	all := []int{}
+	for addr := range 1 << width {
+		all = append(all, longestFit(hops, fmt.Sprintf("%0*b", width, addr)))
+	}
+	return all
 }
 
 // tree has the height of each node, and the costs that are known so far.
